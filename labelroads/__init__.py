@@ -1,0 +1,1 @@
+"""Labelroads: parcels with stacks of labels, for all stacks and all failures."""

@@ -1,0 +1,100 @@
+"""The forms of values: each function tells whether a value of any kind has one.
+
+What a value is gets asked before it is compared: 1 == True, and an object may say that it equals all.
+"""
+
+MOST_HOUSE = 7
+MOST_LETTERS = 8
+MOST_WORD = 3
+MOST_CHOICES = 3
+MOST_GROUPS = 3
+
+
+def is_number(value, least, greatest):
+    """Whether it is an integer from least to greatest; True and False are none."""
+    return isinstance(value, int) and not isinstance(value, bool) and least <= value <= greatest
+
+
+def is_tuple(value, least, greatest):
+    """Whether it is a tuple of at least and at most so many items."""
+    return isinstance(value, tuple) and least <= len(value) <= greatest
+
+
+def is_pair(value):
+    return is_tuple(value, 2, 2)
+
+
+def is_word(value):
+    """Whether it is a string of 1 to 8 letters from a to z."""
+    if not isinstance(value, str) or not 1 <= len(value) <= MOST_LETTERS:
+        return False
+    return all(["a" <= letter <= "z" for letter in value])
+
+
+def is_house(value):
+    return is_number(value, 0, MOST_HOUSE)
+
+
+def is_house_pair(value):
+    """Whether it is a pair of houses, as ROADS has them."""
+    return is_pair(value) and is_house(value[0]) and is_house(value[1])
+
+
+def can_be_label(value):
+    """Whether it is a word that can be a label."""
+    return is_word(value) and value not in ("any", "all")
+
+
+def is_road(roads, value):
+    return is_number(value, 0, len(roads) - 1)
+
+
+def is_label(labels, value):
+    return isinstance(value, str) and value in labels
+
+
+def is_labels(labels, value, most):
+    """Whether it is a tuple of at most so many labels."""
+    return is_tuple(value, 0, most) and all([is_label(labels, label) for label in value])
+
+
+def is_head(roads, labels, value):
+    if not is_pair(value) or not is_road(roads, value[0]):
+        return False
+    top = value[1]
+    return is_label(labels, top) or isinstance(top, str) and top == ""
+
+
+def is_failed(roads, value):
+    """Whether it is an ascending tuple of roads."""
+    if not is_tuple(value, 0, len(roads)) or not all([is_road(roads, road) for road in value]):
+        return False
+    return all([low < high for low, high in zip(value, value[1:])])
+
+
+def is_choice(roads, labels, road, value):
+    """Whether it is a choice behind this road."""
+    if not is_pair(value) or not is_road(roads, value[0]):
+        return False
+    out, word = value
+    return roads[out][0] == roads[road][1] and is_labels(labels, word, MOST_WORD)
+
+
+def is_group(roads, labels, road, value):
+    """Whether it is a group behind this road."""
+    if not is_tuple(value, 1, MOST_CHOICES):
+        return False
+    return all([is_choice(roads, labels, road, choice) for choice in value]) and len(set(value)) == len(value)
+
+
+def is_groups(roads, labels, road, value):
+    """Whether it can be the GROUPS of a row whose head has this road."""
+    if isinstance(value, str):
+        return value == "home"
+    return is_tuple(value, 1, MOST_GROUPS) and all([is_group(roads, labels, road, group) for group in value])
+
+
+def is_row(roads, labels, value):
+    if not is_pair(value) or not is_head(roads, labels, value[0]):
+        return False
+    return is_groups(roads, labels, value[0][0], value[1])

@@ -8,6 +8,7 @@ MOST_LETTERS = 8
 MOST_WORD = 3
 MOST_CHOICES = 3
 MOST_GROUPS = 3
+MOST_ITEMS = 6
 
 
 def is_number(value, least, greatest):
@@ -58,18 +59,23 @@ def is_labels(labels, value, most):
     return is_tuple(value, 0, most) and all([is_label(labels, label) for label in value])
 
 
+def is_sign(labels, value):
+    """Whether it is a label, or the empty string."""
+    return isinstance(value, str) and (value == "" or value in labels)
+
+
 def is_head(roads, labels, value):
-    if not is_pair(value) or not is_road(roads, value[0]):
-        return False
-    top = value[1]
-    return is_label(labels, top) or isinstance(top, str) and top == ""
+    return is_pair(value) and is_road(roads, value[0]) and is_sign(labels, value[1])
+
+
+def is_ascending(values):
+    """Whether values that can be compared stand in their order, none twice."""
+    return all([low < high for low, high in zip(values, values[1:])])
 
 
 def is_failed(roads, value):
     """Whether it is an ascending tuple of roads."""
-    if not is_tuple(value, 0, len(roads)) or not all([is_road(roads, road) for road in value]):
-        return False
-    return all([low < high for low, high in zip(value, value[1:])])
+    return is_tuple(value, 0, len(roads)) and all([is_road(roads, road) for road in value]) and is_ascending(value)
 
 
 def is_choice(roads, labels, road, value):
@@ -98,3 +104,37 @@ def is_row(roads, labels, value):
     if not is_pair(value) or not is_head(roads, labels, value[0]):
         return False
     return is_groups(roads, labels, value[0][0], value[1])
+
+
+def is_shape(labels, value):
+    """Whether it is a tuple of items, each a label, "any" or "all"."""
+    if not is_tuple(value, 0, MOST_ITEMS):
+        return False
+    return all([is_label(("any", "all", *labels), item) for item in value])
+
+
+def is_heads(roads, labels, value):
+    """Whether it is an ascending tuple of heads."""
+    if not isinstance(value, tuple) or not all([is_head(roads, labels, head) for head in value]):
+        return False
+    return is_ascending(value)
+
+
+def is_goal(roads, labels, value):
+    if not is_tuple(value, 1, 3) or not isinstance(value[0], str):
+        return False
+    word = value[0]
+    if len(value) == 1:
+        return word in ("lost", "home")
+    if len(value) == 3:
+        return word == "at" and is_road(roads, value[1]) and is_shape(labels, value[2])
+    if word == "heads":
+        return is_heads(roads, labels, value[1])
+    return word in ("home", "house") and is_house(value[1])
+
+
+def is_edge(labels, last, value):
+    """Whether it is an edge of a machine whose states are the integers from 0 to the last one."""
+    if not is_tuple(value, 3, 3):
+        return False
+    return is_number(value[0], 0, last) and is_sign(labels, value[1]) and is_number(value[2], 0, last)

@@ -1,7 +1,7 @@
 """Nets: what they are, their heads, and what can be taken at a head with some failed roads."""
 
-from labelroads.errors import BadFailed, BadHead, BadNet, BadNumber
-from labelroads.forms import is_failed, is_head, can_be_label, is_number, is_row, is_tuple, is_house_pair
+from labelroads.errors import BadFailed, BadHead, BadNet, BadNumber, BadRoad
+from labelroads.forms import can_be_label, is_failed, is_head, is_house_pair, is_number, is_road, is_row, is_tuple
 
 MOST_ROADS = 10
 MOST_LABELS = 4
@@ -58,6 +58,12 @@ def need_head(net, head):
         raise BadHead(head)
 
 
+def need_road(net, road):
+    """BadRoad if this is no road of the net."""
+    if not is_road(net[0], road):
+        raise BadRoad(road)
+
+
 def need_most(most):
     """BadNumber if this is no number of roads that may fail."""
     if not is_number(most, 0, MOST_FAILED):
@@ -67,6 +73,11 @@ def need_most(most):
 def heads(net):
     """All heads, ascending."""
     need_net(net)
+    return all_heads(net)
+
+
+def all_heads(net):
+    """As heads, of a net that is known to be one."""
     tops = sorted(["", *net[1]])
     return tuple([(road, top) for road in range(len(net[0])) for top in tops])
 
@@ -91,6 +102,11 @@ def free_choices(net, failed, head):
     return ()
 
 
+def choices_by_head(net, failed):
+    """A dict from all heads, ascending, to the choices that can be taken there, of arguments known to be valid."""
+    return {head: free_choices(net, failed, head) for head in all_heads(net)}
+
+
 def choices(net, failed, head):
     """The choices that can be taken at a head, ascending."""
     need_net(net)
@@ -104,6 +120,11 @@ def fate(net, failed, head):
     need_net(net)
     need_failed(net, failed)
     need_head(net, head)
+    return known_fate(net, failed, head)
+
+
+def known_fate(net, failed, head):
+    """As fate, of arguments that are known to be valid."""
     if groups_at(net, head) == "home":
         return "home"
     return "goes" if free_choices(net, failed, head) else "lost"
@@ -113,6 +134,11 @@ def failures(net, most):
     """All sets of at most so many failed roads, the smaller sets first."""
     need_net(net)
     need_most(most)
+    return failed_sets(net, most)
+
+
+def failed_sets(net, most):
+    """As failures, of arguments that are known to be valid."""
     found = [()]
     larger = [()]
     for size in range(most):

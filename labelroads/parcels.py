@@ -56,8 +56,11 @@ def walked(net, failed, parcel, taken):
     return walk(net, failed, parcel, taken)
 
 
-def walk(net, failed, parcel, taken):
-    """As walked, of a parcel that is known to be one but for its height, and any tuple of values."""
+def walk(net, failed, parcel, taken, least=0):
+    """As walked, of a parcel that is known to be one but for its height, and any tuple of values.
+
+    Nor can a choice be taken behind which the stack has fewer labels than least.
+    """
     road = parcel[0]
     # The top label stands last here: a step then costs no copy of the stack, however high it is.
     pile = list(parcel[1][::-1])
@@ -67,4 +70,6 @@ def walk(net, failed, parcel, taken):
             raise BadChoices(place)
         road = choice[0]
         pile.extend(choice[1][::-1])
+        if len(pile) < least:
+            raise BadChoices(place)
     return (road, tuple(pile[::-1]))

@@ -185,3 +185,145 @@ def told_by(case, error, call, *values, **named):
         call(*values, **named)
     case.assertEqual(caught.exception.__class__, error)
     return caught.exception
+
+
+# Values that are nothing of NET; behind each the functions of the tests for refusals put these into each place.
+NO_FAILED = (*WRONG, (4,), (-1,), (0, 0), (1, 0), (0, 2, 1), (0, 1, 2, 3, 4), ("0",), [0], (0, True), (False,), 0, "")
+NO_NUMBERS = (*WRONG, 3, "0", "", (), (1,), 10)
+NO_ROADS = (*WRONG, 4, 5, 7, 8, "0", "", (), (0,), ((0, 1)), "a")
+NO_PARCELS = (
+    *WRONG, (), (0,), (0, (), ()), (4, ()), (-1, ()), (True, ()), (False, ("a",)), ("0", ()), [0, ()], (0, []),
+    (0, ["a"]), (0, "a"), (0, ""), (0, b"a"), (0, None), (0, 1), (0, ("c",)), (0, ("a", "")), (0, ("any",)),
+    (0, ("all",)), (0, ("a", None)), (0, ("a", b"a")), (0, (("a",),)), (0, {"a": 1}), 0, "0 a", (0, ("a",) * 3001),
+    (None, ("a",)), (10**999, ()), (0, ("A",)),
+)
+NO_SHAPES = (
+    *WRONG, ["a"], "a", "all", "", ("c",), ("",), ("Any",), ("ALL",), (0,),
+    ("a", 0), ("a", None), ("a", ("a",)), (b"all",), (b"a",), (("all",),), {"a": 1}, {"all"}, ("any all",), ("a", "-"),
+    ("all",) * 7, ("a",) * 7, ("a", "b", "any", "all", "a", "c"), 0, 1,
+)
+NO_GOALS = (
+    *WRONG, (), "lost", "home", ("lose",), ("",), (b"lost",), ("LOST",), ["lost"], ("lost", 0), ("lost", ()),
+    ("lost", None), ("home", 8), ("home", -1), ("home", True), ("home", "0"), ("home", None), ("home", ()),
+    ("home", 0, 0), ("house",), ("house", 8), ("house", False), ("house", (0,)), ("house", 0, ()), ("heads",),
+    ("heads", []), ("heads", None), ("heads", 0), ("heads", "", ""), ("heads", ((0, "a"), (0, "a"))),
+    ("heads", ((0, "b"), (0, "a"))), ("heads", ((4, ""),)), ("heads", ((0, "c"),)), ("heads", ([0, "a"],)),
+    ("heads", (0, "a")), ("heads", ((0, "a"), None)), ("heads", ((True, "a"),)), ("heads", ((0, "any"),)),
+    ("heads", {(0, "a")}), ("at",), ("at", 0), ("at", 4, ()), ("at", True, ()), ("at", 0, []), ("at", 0, ("c",)),
+    ("at", 0, ("all",) * 7), ("at", 0, (), ()), ("at", (), 0), ("at", "0", ()), ("goes",), ("ever",), ("any",),
+    (("lost",),), (Agreeing(), 0), ("home", Agreeing()), ("home", Breaking()), ("heads", (Agreeing(),)),
+    ("heads", ((0, Agreeing()),)), ("at", Breaking(), ()), ("at", 0, (Agreeing(),)), ("at", 0, Breaking()),
+)
+# One of each of the six kinds at the least, of NET.
+GOALS = (
+    ("lost",), ("home",), ("home", 1), ("home", 2), ("home", 7), ("house", 0), ("house", 2), ("heads", ()),
+    ("heads", ((0, ""),)), ("heads", ((1, "b"), (3, ""), (3, "b"))), ("at", 3, ()), ("at", 1, ("b", "all")),
+    ("at", 0, ("all", "a", "all", "any", "b")), ("at", 2, ("all",) * 6),
+)
+
+
+def some_shape(chance, labels, most=6):
+    return tuple(chance.choice(("any", "all", "all", *labels)) for place in range(chance.randint(0, most)))
+
+
+def some_stack(chance, labels, shape):
+    """A stack of a shape."""
+    found = []
+    for item in shape:
+        if item == "all":
+            found.extend(some_word(chance, labels, 2))
+        else:
+            found.append(chance.choice(labels) if item == "any" else item)
+    return tuple(found)
+
+
+def some_goal(chance, net):
+    """A goal, of any kind, and of such as come not too soon."""
+    house = chance.choice(net[0])[1]
+    some_heads = tuple(sorted(chance.sample(all_heads(net), chance.randint(0, 2))))
+    at = ("at", chance.randrange(len(net[0])), some_shape(chance, net[1]))
+    return chance.choice((("lost",), ("home",), ("home", house), ("house", house), ("heads", some_heads), at))
+
+
+def little_net(seed, most_word=3, chances=0.5):
+    """A net of few roads between few houses, such that parcels go on for long, another one for each seed.
+
+    No choice lays more than most_word labels; chances tell how often a head has no row.
+    """
+    chance = random.Random(seed)
+    houses = chance.randint(1, 2)
+    roads = tuple((chance.randrange(houses), chance.randrange(houses)) for road in range(chance.randint(1, 4)))
+    labels = ("b", "a", "c")[: chance.randint(1, 2)]
+    rows = []
+    for head in all_heads((roads, labels)):
+        outs = [out for out, way in enumerate(roads) if way[0] == roads[head[0]][1]]
+        if chance.random() < chances or not outs:
+            continue
+        groups = []
+        for group in range(chance.randint(1, 2)):
+            many = chance.randint(1, 2)
+            wanted = [(chance.choice(outs), some_word(chance, labels, most_word)) for choice in range(many)]
+            groups.append(tuple(dict.fromkeys(wanted)))
+        rows.append((head, "home" if chance.random() < 0.1 else tuple(groups)))
+    return (roads, labels, tuple(rows))
+
+
+def flat_net(seed):
+    """A net in which no stack grows above one label: all that comes from a parcel can be looked at."""
+    return little_net(seed, 1, 0.3)
+
+
+def doubling_net(number):
+    """A net in which the parcel (0, ("a",)) needs just so many steps, of which none can be chosen, to get to (0, ()).
+
+    Popping the label off from one road takes twice as many steps as from the next one, and two or three besides.
+    """
+    rows = []
+    road = 0
+    while number > 3:
+        rows.append(((road, "a"), (((road + 1, ("a", "a", "b")),),)))
+        if number % 2:
+            rows.append(((road + 1, "b"), (((road + 1, ("c",)),),)))
+        rows.append(((road + 1, "c" if number % 2 else "b"), (((road, ()),),)))
+        number = (number - 2) // 2
+        road += 1
+    rows.append(((road, "a"), (((road, ("d",) * (number - 1)),),)))
+    rows.append(((road, "d"), (((road, ()),),)))
+    return (((0, 0),) * (road + 1), ("a", "b", "c", "d"), tuple(sorted(rows)))
+
+
+def ninefold_net(roads):
+    """A net in which labels are laid threefold, twice for each road: steps_of_ninefold tells how long that takes."""
+    rows = []
+    for road in range(roads - 1):
+        rows.append(((road, "a"), (((road, ("b", "b", "b")),),)))
+        rows.append(((road, "b"), (((road + 1, ("a", "a", "c")),),)))
+        rows.append(((road + 1, "c"), (((road + 1, ("a", "d")),),)))
+        rows.append(((road + 1, "d"), (((road, ()),),)))
+    rows.append(((roads - 1, "a"), (((roads - 1, ()),),)))
+    return (((0, 0),) * roads, ("a", "b", "c", "d"), tuple(sorted(rows)))
+
+
+def steps_of_ninefold(roads):
+    """How many steps the parcel (0, ("a",)) needs to get to (0, ()) in such a net."""
+    number = 1
+    for road in range(roads - 1):
+        number = 1 + 3 * (3 + 3 * number)
+    return number
+
+
+def winding_net(seed):
+    """A net in which ways are long: few choices, of which as many lay labels as take them off."""
+    chance = random.Random(seed)
+    roads = ((0, 0),) * chance.randint(2, 4)
+    labels = ("b", "a", "c")[: chance.randint(2, 3)]
+    rows = []
+    for head in all_heads((roads, labels)):
+        if head[1] == "" and chance.random() < 0.6 or chance.random() < 0.15:
+            continue
+        wanted = []
+        for choice in range(chance.choice((1, 1, 1, 2))):
+            word = tuple(chance.choice(labels) for place in range(chance.choice((0, 0, 0, 1, 1, 2, 2, 3))))
+            wanted.append((chance.randrange(len(roads)), word))
+        rows.append((head, "home" if chance.random() < 0.03 else (tuple(dict.fromkeys(wanted)),)))
+    return (roads, labels, tuple(rows))

@@ -9,8 +9,8 @@ from labelroads import nets
 from labelroads.errors import BadFailed, BadHead, BadNet, BadNumber
 from labelroads.nets import choices, fate, failures, heads, need_net
 from tests.samples import (
-    LABELS, NET, ROADS, ROWS, SMALL, WRONG, all_heads, fault_place, nested, places, put_at, some_failed, some_net,
-    told_by,
+    LABELS, NET, NO_FAILED, NO_NUMBERS, ROADS, ROWS, SMALL, WRONG, all_heads, fault_place, nested, places, put_at,
+    some_failed, some_net, told_by,
 )
 
 LOOP = ((0, 0),)
@@ -325,8 +325,7 @@ class Refusals(unittest.TestCase):
     """Of choices and fate: BadNet, then BadFailed, then BadHead."""
 
     def test_no_failed_roads(self):
-        wrong = (*WRONG, (4,), (-1,), (0, 0), (1, 0), (0, 2, 1), (0, 1, 2, 3, 4), ("0",), [0], (0, True), (False,), 0)
-        for failed in (*wrong, "", "0", (0, 1, 1), ((0,),), (0, None)):
+        for failed in (*NO_FAILED, "0", (0, 1, 1), ((0,),), (0, None)):
             for head in ((0, ""), None, (0, "c")):
                 for call in (choices, fate):
                     self.assertIs(told_by(self, BadFailed, call, NET, failed, head).value, failed)
@@ -367,7 +366,7 @@ class Failures(unittest.TestCase):
                 self.assertEqual(failures(net, most), tuple(wanted))
 
     def test_no_number(self):
-        for most in (*WRONG, 3, "0", "", (), (1,), 10):
+        for most in NO_NUMBERS:
             self.assertIs(told_by(self, BadNumber, failures, NET, most).value, most)
 
 

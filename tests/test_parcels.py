@@ -8,16 +8,12 @@ from labelroads import parcels
 from labelroads.errors import BadChoices, BadFailed, BadNet, BadParcel
 from labelroads.nets import choices
 from labelroads.parcels import head_of, is_parcel, steps, walked
-from tests.samples import LABELS, NET, ROADS, ROWS, WRONG, put_at, some_failed, some_net, some_word, told_by
+from tests.samples import (
+    LABELS, NET, NO_FAILED, NO_PARCELS, ROADS, ROWS, WRONG, put_at, some_failed, some_net, some_word, told_by,
+)
 
 # A net whose one road lets its labels grow without an end, and takes them off.
 TOWER = (((0, 0),), ("a", "b"), (((0, ""), (((0, ("a",)),),)), ((0, "a"), (((0, ("a", "a", "a")), (0, ())),))))
-NO_PARCELS = (
-    *WRONG, (), (0,), (0, (), ()), (4, ()), (-1, ()), (True, ()), (False, ("a",)), ("0", ()), [0, ()], (0, []),
-    (0, ["a"]), (0, "a"), (0, ""), (0, b"a"), (0, None), (0, 1), (0, ("c",)), (0, ("a", "")), (0, ("any",)),
-    (0, ("all",)), (0, ("a", None)), (0, ("a", b"a")), (0, (("a",),)), (0, {"a": 1}), 0, "0 a", (0, ("a",) * 3001),
-    (None, ("a",)), (10**999, ()), (0, ("A",)),
-)
 
 
 class Names(unittest.TestCase):
@@ -129,7 +125,7 @@ class Steps(unittest.TestCase):
     def test_refusals(self):
         for value in NO_PARCELS:
             self.assertIs(told_by(self, BadParcel, steps, NET, (), value).value, value)
-        for failed in (*WRONG, (4,), (1, 0), (0, 0), (False,), 0):
+        for failed in NO_FAILED:
             self.assertIs(told_by(self, BadFailed, steps, NET, failed, None).value, failed)
             self.assertIs(told_by(self, BadFailed, steps, NET, failed, (0, ())).value, failed)
         self.assertEqual(told_by(self, BadNet, steps, (ROADS, LABELS, (None,)), None, None).place, ("rows", 0))
@@ -210,7 +206,7 @@ class Walked(unittest.TestCase):
         for value in NO_PARCELS:
             self.assertIs(told_by(self, BadParcel, walked, NET, (), value, None).value, value)
             self.assertIs(told_by(self, BadParcel, walked, NET, (), value, ((1, ()),)).value, value)
-        for failed in (*WRONG, (4,), (1, 0), (0, 0), (False,)):
+        for failed in NO_FAILED:
             self.assertIs(told_by(self, BadFailed, walked, NET, failed, None, None).value, failed)
         self.assertEqual(told_by(self, BadNet, walked, (None, LABELS, ROWS), None, None, None).place, ("roads",))
 

@@ -1,6 +1,6 @@
 """Checks what a script can check of ../shared/LANGUAGE.md, over the files of the package.
 
-python3 tools/rules.py prints a line for each fault, and ends with 1 if there is one.
+python3 -m tools.rules prints a line for each fault, and ends with 1 if there is one.
 """
 
 import ast
@@ -8,6 +8,11 @@ import builtins
 import re
 import sys
 from pathlib import Path
+
+from tools.places import (
+    builtin_faults, changed_loop_faults, iterable_faults, method_faults, set_faults, stored_set_faults,
+)
+from tools.source import BUILTIN_METHODS, FUNCTIONS, Source, called_name, own_methods
 
 PACKAGE = "labelroads"
 MOST_FILES = 100
@@ -20,13 +25,6 @@ BUILTINS = set(
     "isinstance ord repr any all divmod iter next super property staticmethod classmethod Exception ValueError "
     "TypeError KeyError IndexError LookupError ZeroDivisionError ArithmeticError OverflowError RuntimeError "
     "NotImplementedError AttributeError StopIteration NotImplemented".split()
-)
-BUILTIN_METHODS = set(
-    "append clear copy count endswith extend find get index insert isalnum isalpha isdigit islower isspace isupper "
-    "items join keys ljust lower lstrip partition pop remove replace reverse rfind rjust rpartition rsplit rstrip "
-    "setdefault split splitlines startswith strip update upper values zfill bit_length title capitalize swapcase "
-    "casefold center expandtabs removeprefix removesuffix rindex isascii isdecimal isnumeric istitle isidentifier "
-    "isprintable translate maketrans sort add discard encode decode hex from_bytes".split()
 )
 SPECIAL_METHODS = {
     f"__{name}__"
@@ -55,39 +53,9 @@ BARRED_FILES = set("test tests testing site conftest sitecustomize usercustomize
 CAUGHT = {"KeyError", "ZeroDivisionError", "StopIteration", "ValueError", "LookupError", "IndexError"}
 EATERS = set("list tuple dict sorted sum min max any all".split())
 PLAIN_NAME = re.compile(r"[A-Za-z][A-Za-z0-9_]*\Z")
-FUNCTIONS = (ast.FunctionDef, ast.AsyncFunctionDef)
 BARRED_STATEMENTS = (
     ast.Global, ast.AsyncFunctionDef, ast.AsyncFor, ast.AsyncWith, ast.Await, ast.Import, ast.Delete, ast.TryStar,
 )
-
-
-class Source:
-    """One file of the package, read."""
-
-    def __init__(self, name, text):
-        self.name = name
-        self.text = text
-        self.tree = ast.parse(text)
-        self.nodes = list(ast.walk(self.tree))
-        self.imports = [node for node in self.tree.body if isinstance(node, ast.ImportFrom)]
-        self.classes = [node for node in self.nodes if isinstance(node, ast.ClassDef)]
-        self.functions = [node for node in self.nodes if isinstance(node, FUNCTIONS)]
-        self.methods = [node for owner in self.classes for node in owner.body if isinstance(node, FUNCTIONS)]
-        self.parents = {child: node for node in self.nodes for child in ast.iter_child_nodes(node)}
-
-    def module(self):
-        path = self.name[: -len(".py")].replace("/", ".")
-        return path.removesuffix(".__init__")
-
-    def top_names(self):
-        """The names bound at module level, one for each binding."""
-        found = [alias.asname or alias.name for node in self.imports for alias in node.names]
-        for node in self.tree.body:
-            if isinstance(node, (ast.ClassDef, *FUNCTIONS)):
-                found.append(node.name)
-            if isinstance(node, ast.Assign):
-                found.extend(target.id for target in node.targets if isinstance(target, ast.Name))
-        return found
 
 
 def is_docstring(node):
@@ -266,10 +234,6 @@ def has_wrong_is(node):
     return False
 
 
-def called_name(node):
-    return node.func.id if isinstance(node, ast.Call) and isinstance(node.func, ast.Name) else None
-
-
 def string_faults(source):
     """L14, L27: strings, escapes and powers."""
     for node in source.nodes:
@@ -285,10 +249,6 @@ def string_faults(source):
     for number, line in enumerate(source.text.split("\n"), 1):
         if re.search(r"\\[^nt\\'\"]", line.replace("\\\\", "")) and "b\"" not in line and "b'" not in line:
             yield number, "L27", "an escape that is not allowed"
-
-
-def own_methods(sources):
-    return {node.name for source in sources for node in source.methods}
 
 
 def own_attributes(sources):
@@ -356,9 +316,10 @@ def file_faults(names):
 
 
 ALONE = (
-    text_faults, top_faults, function_faults, name_faults, statement_faults, string_faults,
+    text_faults, top_faults, function_faults, name_faults, statement_faults, string_faults, builtin_faults,
+    iterable_faults, changed_loop_faults, set_faults, stored_set_faults,
 )
-TOGETHER = (import_faults, attribute_faults, error_faults, eater_faults)
+TOGETHER = (import_faults, attribute_faults, error_faults, eater_faults, method_faults)
 
 
 def faults(texts):

@@ -51,10 +51,7 @@ def next_layer(table, layer, sign):
 
 def reached(table, state, signs):
     """The layer behind all of the signs."""
-    layer = {state: 0}
-    for sign in signs:
-        layer = next_layer(table, layer, sign)
-    return layer
+    return layers(table, state, signs)[-1]
 
 
 def is_saturated(table, free):
@@ -124,12 +121,13 @@ def unfolded(table, free, edges):
 
 def meaning(table, free, edge):
     """A choice for which an edge with weight stands, and the edges behind it."""
-    state, sign, end = edge
-    for out, word in free[(state, sign)]:
-        signs = signs_of((state, sign), word)
-        if reached(table, out, signs).get(end) == weight_of(table, edge) - 1:
-            return (out, word), lightest_path(table, out, signs, end)
-    return None
+    head, end = edge[:2], edge[2]
+    left = weight_of(table, edge) - 1
+    fitting = [
+        (out, word) for out, word in free[head] if reached(table, out, signs_of(head, word)).get(end) == left
+    ]
+    out, word = fitting[0]
+    return (out, word), lightest_path(table, out, signs_of(head, word), end)
 
 
 def lightest_stack(table, labels, road, shape, end):

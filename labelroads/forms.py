@@ -138,3 +138,29 @@ def is_edge(labels, last, value):
     if not is_tuple(value, 3, 3):
         return False
     return is_number(value[0], 0, last) and is_sign(labels, value[1]) and is_number(value[2], 0, last)
+
+
+def is_pop(roads, labels, value):
+    """Whether it is a triple of a road, a label and a road."""
+    if not is_tuple(value, 3, 3):
+        return False
+    return is_road(roads, value[0]) and is_label(labels, value[1]) and is_road(roads, value[2])
+
+
+def is_pops(roads, labels, value):
+    """Whether it is an ascending tuple of triples of a road, a label and a road."""
+    return isinstance(value, tuple) and all([is_pop(roads, labels, pop) for pop in value]) and is_ascending(value)
+
+
+def is_rank(value):
+    """Whether it is an integer from 0 on."""
+    return isinstance(value, int) and not isinstance(value, bool) and value >= 0
+
+
+def is_ranks(roads, labels, value):
+    """Whether it is a tuple of pairs of a head and a rank, ascending by the heads."""
+    if not isinstance(value, tuple) or not all([is_pair(pair) for pair in value]):
+        return False
+    if not all([is_head(roads, labels, head) and is_rank(rank) for head, rank in value]):
+        return False
+    return is_ascending([head for head, rank in value])

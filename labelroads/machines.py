@@ -1,6 +1,6 @@
 """Machines: the least closed one of a goal, which values are closed, and what can come from a parcel."""
 
-from labelroads.edges import edges_of, is_saturated, reached, saturated, table_of
+from labelroads.edges import edges_of, is_saturated, lightest_stack, reached, saturated, table_of
 from labelroads.forms import is_ascending, is_edge
 from labelroads.goals import has_come_at, need_goal
 from labelroads.nets import all_heads, choices_by_head, need_failed, need_net
@@ -84,14 +84,19 @@ def is_closed_machine(net, failed, goal, value):
     if not is_machine(net, goal, value):
         return False
     table = table_of(value)
-    if not all([sign_leads(table, edge) for edge in first_edges(net, failed, goal)]):
+    if not all([has_edge(table, edge) for edge in first_edges(net, failed, goal)]):
         return False
     return is_saturated(table, choices_by_head(net, failed))
 
 
-def sign_leads(table, edge):
+def has_edge(table, edge):
     """Whether a table has an edge."""
     return edge[2] in table.get(edge[:2], {})
+
+
+def accepts_some(net, road, shape, table):
+    """Whether the machine with this table accepts some parcel on a road with a stack of a shape."""
+    return lightest_stack(table, net[1], road, shape, end_state(net)) is not None
 
 
 def is_closed(net, failed, goal, value):

@@ -1,10 +1,10 @@
 """Questions whether a goal can come by failed roads, and papers that show the answers."""
 
-from labelroads.edges import edges_of, lightest_stack, table_of
+from labelroads.edges import edges_of, table_of
 from labelroads.errors import BadChoices, BadPaper
 from labelroads.forms import is_failed, is_labels, is_tuple
 from labelroads.goals import has_come, need_way
-from labelroads.machines import end_state, is_closed_machine, least_table
+from labelroads.machines import accepts_some, is_closed_machine, least_table
 from labelroads.nets import failed_sets, need_most, need_net
 from labelroads.parcels import walk
 from labelroads.shapes import has_shape
@@ -17,14 +17,9 @@ def can(net, most, road, shape, goal):
     need_most(most)
     need_way(net, road, shape, goal)
     for failed in failed_sets(net, most):
-        if takes_some(net, road, shape, least_table(net, failed, goal)):
+        if accepts_some(net, road, shape, least_table(net, failed, goal)):
             return True
     return False
-
-
-def takes_some(net, road, shape, table):
-    """Whether a machine accepts some parcel on a road with a stack of a shape."""
-    return lightest_stack(table, net[1], road, shape, end_state(net)) is not None
 
 
 def paper(net, most, road, shape, goal):
@@ -85,6 +80,6 @@ def are_machines(net, most, road, shape, goal, machines):
     if not is_tuple(machines, len(sets), len(sets)):
         return False
     for failed, machine in zip(sets, machines):
-        if not is_closed_machine(net, failed, goal, machine) or takes_some(net, road, shape, table_of(machine)):
+        if not is_closed_machine(net, failed, goal, machine) or accepts_some(net, road, shape, table_of(machine)):
             return False
     return True

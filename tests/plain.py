@@ -113,18 +113,32 @@ def accepts(net, machine, parcel):
     return len(net[0]) + 1 in states_behind(machine, road, (*stack, ""))
 
 
-def walk_all(net, failed, starts, most_steps, most_labels):
-    """A dict from the parcels that come from some others, within both bounds, to the fewest steps to them."""
-    found = {parcel: 0 for parcel in starts}
-    layer = list(found)
+def all_steps(net, failed, starts, most_steps, goes_on):
+    """Pairs of a number and a parcel that comes by so many steps; they go on from such as goes_on lets by, once."""
+    seen = set(starts)
+    layer = list(seen)
     for number in range(1, most_steps + 1):
         later = []
         for parcel in layer:
             for choice, other in steps(net, failed, parcel):
-                if other not in found and len(other[1]) <= most_labels:
-                    found[other] = number
+                yield number, other
+                if goes_on(other) and other not in seen:
+                    seen.add(other)
                     later.append(other)
+        if not later:
+            return
         layer = later
+
+
+def walk_all(net, failed, starts, most_steps, most_labels):
+    """A dict from the parcels that come from some others, within both bounds, to the fewest steps to them."""
+    def is_low(parcel):
+        return len(parcel[1]) <= most_labels
+
+    found = {parcel: 0 for parcel in starts}
+    for number, parcel in all_steps(net, failed, starts, most_steps, is_low):
+        if is_low(parcel):
+            found.setdefault(parcel, number)
     return found
 
 
@@ -132,3 +146,134 @@ def fewest_to(net, failed, starts, goal, most_steps, most_labels):
     """The fewest steps behind which a goal comes from one of some parcels, within both bounds, or None."""
     found = walk_all(net, failed, starts, most_steps, most_labels)
     return min((number for parcel, number in found.items() if has_come(net, failed, goal, parcel)), default=None)
+
+
+def popped_off(triples, road, word):
+    """[30]: the roads to which a word is popped off from a road, with some triples as the pops."""
+    if not word:
+        return {road}
+    found = set()
+    for start, label, other in triples:
+        if start == road and label == word[0]:
+            found |= popped_off(triples, other, word[1:])
+    return found
+
+
+def wanted_pops(net, failed, triples):
+    """[30]: the pops that the rule wants, with some triples as the pops."""
+    found = set()
+    for road, top in heads_of(net):
+        if top:
+            for out, word in choices(net, failed, (road, top)):
+                found |= {(road, top, other) for other in popped_off(triples, out, word)}
+    return found
+
+
+def all_pops(net, failed):
+    found = set()
+    while not wanted_pops(net, failed, found) <= found:
+        found |= wanted_pops(net, failed, found)
+    return found
+
+
+def all_links(net, failed, triples):
+    """[31]: the links, with some triples as the pops."""
+    found = set()
+    for head in heads_of(net):
+        for out, word in choices(net, failed, head):
+            for place, label in enumerate(word):
+                for road in popped_off(triples, out, word[:place]):
+                    found.add((head, (road, label), len(word[place + 1 :])))
+            if head[1] == "":
+                found |= {(head, (road, ""), 0) for road in popped_off(triples, out, word)}
+    return found
+
+
+def first_heads(triples, parcel):
+    """[32]: the heads that come from a parcel without links, with some triples as the pops."""
+    road, stack = parcel
+    found = set()
+    for place, label in enumerate(stack):
+        found |= {(other, label) for other in popped_off(triples, road, stack[:place])}
+    return found | {(other, "") for other in popped_off(triples, road, stack)}
+
+
+def heads_on(links, starts):
+    """Some heads, and all to which links lead from them, one behind the other."""
+    found = set(starts)
+    while True:
+        more = {other for head, other, below in links if head in found}
+        if more <= found:
+            return found
+        found |= more
+
+
+def heads_that_come(net, failed, parcel):
+    triples = all_pops(net, failed)
+    return heads_on(all_links(net, failed, triples), first_heads(triples, parcel))
+
+
+def heads_on_rings(net, failed):
+    """[33]: the heads from which one link or more lead back to them."""
+    links = all_links(net, failed, all_pops(net, failed))
+    found = set()
+    for start in heads_of(net):
+        if start in heads_on(links, [other for head, other, below in links if head == start]):
+            found.add(start)
+    return found
+
+
+def fewest_pops(net, failed, road, label, most_steps, most_labels):
+    """[30]'s fact: a dict from roads to the fewest steps from a lone label to an empty stack, within both bounds."""
+    found = {}
+    told = all_steps(net, failed, [(road, (label,))], most_steps, lambda parcel: 0 < len(parcel[1]) <= most_labels)
+    for number, parcel in told:
+        if parcel[1] == ():
+            found.setdefault(parcel[0], number)
+    return found
+
+
+def fewest_ring(net, failed, head, most_steps, most_labels):
+    """[34]: the fewest choices of a RING behind which a head is there again, within both bounds, or None."""
+    road, top = head
+    start = (road, (top,) if top else ())
+    told = all_steps(net, failed, [start], most_steps, lambda parcel: len(start[1]) <= len(parcel[1]) <= most_labels)
+    for number, parcel in told:
+        if head_of_parcel(parcel) == head:
+            return number
+    return None
+
+
+def goes_for_ever(net, failed, parcel):
+    """[33]: whether there is an endless row of steps, of a net in which no stack grows."""
+    all_parcels = walk_all(net, failed, [parcel], 10**6, 10**6)
+    behind = {other: {more for choice, more in steps(net, failed, other)} for other in all_parcels}
+    left = {other: len(more) for other, more in behind.items()}
+    ahead = {other: [] for other in all_parcels}
+    for other, more in behind.items():
+        for one in more:
+            ahead[one].append(other)
+    ended = [other for other, many in left.items() if many == 0]
+    # Whoever can only go to such as end ends too; what is left at last goes on.
+    for other in ended:
+        for one in ahead[other]:
+            left[one] -= 1
+            if left[one] == 0:
+                ended.append(one)
+    return len(ended) < len(all_parcels)
+
+
+def longest_links(links, head):
+    """[34]: the greatest number of links that can lead on from a head, of which none comes back."""
+    return max((1 + longest_links(links, other) for start, other, below in links if start == head), default=0)
+
+
+def is_ends(net, failed, parcel, triples, ranks):
+    """[34]: whether POPS and RANKS, of the right kinds, show that a parcel ends."""
+    if not wanted_pops(net, failed, triples) <= set(triples):
+        return False
+    told = dict(ranks)
+    if not first_heads(triples, parcel) <= set(told):
+        return False
+    links = [link for link in all_links(net, failed, triples) if link[0] in told]
+    return all(other in told and told[other] < told[head] for head, other, below in links)

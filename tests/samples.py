@@ -212,6 +212,7 @@ NO_GOALS = (
     ("heads", {(0, "a")}), ("at",), ("at", 0), ("at", 4, ()), ("at", True, ()), ("at", 0, []), ("at", 0, ("c",)),
     ("at", 0, ("all",) * 7), ("at", 0, (), ()), ("at", (), 0), ("at", "0", ()), ("goes",), ("ever",), ("any",),
     (("lost",),), (Agreeing(), 0), ("home", Agreeing()), ("home", Breaking()), ("heads", (Agreeing(),)),
+    ("house", 0, 0, 0), ("home", 0, (), ()), ("heads", (), (), ()), ("lost", 0, 0, 0),
     ("heads", ((0, Agreeing()),)), ("at", Breaking(), ()), ("at", 0, (Agreeing(),)), ("at", 0, Breaking()),
 )
 # One of each of the six kinds at the least, of NET.
@@ -290,6 +291,12 @@ def doubling_net(number):
     rows.append(((road, "a"), (((road, ("d",) * (number - 1)),),)))
     rows.append(((road, "d"), (((road, ()),),)))
     return (((0, 0),) * (road + 1), ("a", "b", "c", "d"), tuple(sorted(rows)))
+
+
+def ring_net(number):
+    """A net in which the parcel (0, ()) needs just so many steps to get back to (0, ()), and has nothing else to do."""
+    roads, labels, rows = doubling_net(number - 1)
+    return (roads, labels, (((0, ""), (((0, ("a",)),),)), *rows))
 
 
 def ninefold_net(roads):

@@ -160,6 +160,16 @@ class IsClosed(unittest.TestCase):
                 more = tuple(sorted({*machine, edge}))
                 self.assertIs(is_closed(NET, (), goal, more), plain.is_closed_machine(NET, (), goal, more))
 
+    def test_edges_of_two_and_four_items(self):
+        for goal in GOALS:
+            machine = least(NET, (), goal)
+            for edge in ((99, "a"), (99,), (0, "a", 0, 0), (), (0, "", 5, "")):
+                self.assertIs(is_closed(NET, (), goal, (edge,)), False)
+                self.assertIs(is_closed(NET, (), goal, tuple(sorted((*machine, edge)))), False)
+            more = tuple((*edge, 0) for edge in machine)
+            self.assertIs(is_closed(NET, (), goal, more), False)
+            self.assertIs(is_closed(NET, (), goal, tuple(edge[:2] for edge in machine)), False)
+
     def test_the_state_after_all_items(self):
         machine = least(NET, (), ("at", 0, ("a",)))
         more = tuple(sorted((*machine, (7, "a", 7))))

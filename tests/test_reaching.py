@@ -175,6 +175,8 @@ class Check(unittest.TestCase):
     def test_wrong_failed_roads_of_a_way(self):
         for failed in (*NO_FAILED, (), (1,), (3,), (0, 1), (0, 1, 3), (1, 2, 3)):
             self.bad(QUESTION, ("way", failed, *WAY[2:]), "way")
+        for failed in (*NO_FAILED, (5,), (0, 4), (0, 6), (0, 1, 3), (1, 2, 3)):
+            self.bad((NET, 2, 0, ("b",), ("home",)), ("way", failed, ("b",), ()), "way")
         self.bad((NET, 1, *QUESTION[2:]), WAY, "way")
         self.bad((NET, 0, *QUESTION[2:]), WAY, "way")
         self.bad((NET, 1, 0, ("b",), ("home",)), ("way", (1, 2), ("b",), ()), "way")

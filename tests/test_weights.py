@@ -85,6 +85,15 @@ class ByHand(Holding):
         ))
         self.assertEqual(fewest_way(net, (), 0, ("a",), POPPED), (("a",), ((0, ("c", "c", "c")), *((0, ()),) * 3)))
 
+    def test_the_cheap_choice_behind_the_dear_one(self):
+        # The choice of b that is less dear by one comes behind the other one in every order, and is found later.
+        rows = (((0, "a"), (((0, ("b",)),),)), ((0, "b"), (((0, ("c", "c")), (1, ("d",))),)), ((0, "c"), (((0, ()),),)))
+        net = (((0, 0), (0, 0)), ("a", "b", "c", "d"), (*rows, ((1, "d"), (((0, ()),),))))
+        for label, number in (("a", 3), ("b", 2), ("c", 1)):
+            self.assertEqual(fewest_steps(net, (), 0, (label,), POPPED), number)
+            self.assertEqual(len(self.holds(net, (), 0, (label,), POPPED)[1]), number)
+        self.assertEqual(fewest_steps(net, (1,), 0, ("a",), POPPED), 4)
+
     def test_failed_roads(self):
         for failed, wanted in (((), None), ((1,), None), ((1, 3), 1), ((0, 1, 3), 1), ((1, 2, 3), None)):
             self.assertEqual(fewest_steps(NET, failed, 0, ("a",), ("house", 0)), wanted, failed)

@@ -12,7 +12,7 @@ from pathlib import Path
 from tools.places import (
     builtin_faults, changed_loop_faults, iterable_faults, method_faults, set_faults, stored_set_faults,
 )
-from tools.source import BUILTIN_METHODS, FUNCTIONS, Source, called_name, own_methods
+from tools.source import BUILTIN_METHODS, Source, called_name, own_methods
 
 PACKAGE = "labelroads"
 MOST_FILES = 100

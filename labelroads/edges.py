@@ -151,6 +151,15 @@ def lightest_stack(table, labels, road, shape, end):
     return min(ends, default=None)
 
 
+def shortest_stack(table, labels, road, shape, end):
+    """A shortest stack of the shape by whose labels, and then by "", edges lead from a road to an end, or None."""
+    by_labels = {
+        (state, sign): {other: 1 if sign else 0 for other in row} for (state, sign), row in table.items()
+    }
+    found = lightest_stack(by_labels, labels, road, shape, end)
+    return None if found is None else found[1]
+
+
 def stacks_behind(table, labels, shape, node, told):
     """Each pair of a state and a number of items that one more label leads to, with the weight and the stack then."""
     state, done = node

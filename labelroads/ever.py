@@ -33,21 +33,16 @@ def ring_heads(net, failed):
     return known_ring_heads(net, failed)
 
 
-def heads_and_rings(net, failed, parcel):
-    """A pair of the heads that come from a parcel and of all heads on rings."""
-    free = choices_by_head(net, failed)
-    table = pop_table(free)
-    linked = linked_heads(table, free)
-    return coming_heads(table, linked, parcel), rings(linked)
-
-
 def for_ever(net, failed, parcel):
     """Whether a parcel can go on for ever."""
     need_net(net)
     need_failed(net, failed)
     need_parcel(net, parcel)
-    heads, on_rings = heads_and_rings(net, failed, parcel)
-    return any([head in on_rings for head in heads])
+    free = choices_by_head(net, failed)
+    table = pop_table(free)
+    linked = linked_heads(table, free)
+    on_rings = rings(linked)
+    return any([head in on_rings for head in coming_heads(table, linked, parcel)])
 
 
 def first_for_ever(net, most, road, shape):

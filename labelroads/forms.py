@@ -113,6 +113,11 @@ def is_shape(labels, value):
     return all([is_label(("any", "all", *labels), item) for item in value])
 
 
+def is_entry(roads, labels, value):
+    """Whether it is a pair of a road and a shape."""
+    return is_pair(value) and is_road(roads, value[0]) and is_shape(labels, value[1])
+
+
 def is_heads(roads, labels, value):
     """Whether it is an ascending tuple of heads."""
     if not isinstance(value, tuple) or not all([is_head(roads, labels, head) for head in value]):

@@ -1,7 +1,9 @@
 """Nets: what they are, their heads, and what can be taken at a head with some failed roads."""
 
 from labelroads.errors import BadFailed, BadHead, BadNet, BadNumber, BadRoad
-from labelroads.forms import can_be_label, is_failed, is_head, is_house_pair, is_number, is_road, is_row, is_tuple
+from labelroads.forms import (
+    can_be_label, is_failed, is_head, is_house, is_house_pair, is_number, is_road, is_row, is_tuple,
+)
 
 MOST_ROADS = 10
 MOST_LABELS = 4
@@ -62,6 +64,12 @@ def need_road(net, road):
     """BadRoad if this is no road of the net."""
     if not is_road(net[0], road):
         raise BadRoad(road)
+
+
+def need_house(house):
+    """BadNumber if this is no house."""
+    if not is_house(house):
+        raise BadNumber(house)
 
 
 def need_most(most):

@@ -2,8 +2,9 @@
 
 import itertools
 
-from labelroads.nets import choices, fate
+from labelroads.nets import choices, failures, fate
 from labelroads.parcels import steps
+from labelroads.weights import fewest_steps
 
 
 def cuts(shape, stack):
@@ -277,3 +278,102 @@ def is_ends(net, failed, parcel, triples, ranks):
         return False
     links = [link for link in all_links(net, failed, triples) if link[0] in told]
     return all(other in told and told[other] < told[head] for head, other, below in links)
+
+
+def outcomes_of(net, failed, parcel):
+    """[37]: the outcomes of a parcel."""
+    found = set()
+    on_rings = heads_on_rings(net, failed)
+    for head in heads_that_come(net, failed, parcel):
+        what = fate(net, failed, head)
+        if head in on_rings:
+            found.add(("ever",))
+        if what == "home":
+            found.add(("home", net[0][head[0]][1]))
+        if what == "lost":
+            found.add(("lost",))
+    return found
+
+
+def parcels_of(net, most):
+    """All parcels with stacks of at most so many labels, the lower ones first."""
+    for stack in stacks_of(net[1], ("all",), most):
+        for road in range(len(net[0])):
+            yield road, stack
+
+
+def partings(one, other, failed, most):
+    """[38]: all partings with some failed roads by stacks of at most so many labels, the lower ones first."""
+    for parcel in parcels_of(one, most):
+        for outcome in sorted(outcomes_of(one, failed, parcel) ^ outcomes_of(other, failed, parcel)):
+            yield failed, parcel, outcome
+
+
+def group_taken(groups, failed):
+    """[40]: the number of the group of which choices can be taken, 0 of "home", or None."""
+    if groups == "home":
+        return 0
+    for number, group in enumerate(groups):
+        if any(out not in failed for out, word in group):
+            return number
+    return None
+
+
+def serving(net, most, entries):
+    """[40]: the groups that serve, whether their heads come being asked by the machines."""
+    found = set()
+    for failed in failures(net, most):
+        for head, groups in net[2]:
+            number = group_taken(groups, failed)
+            goal = ("heads", (head,))
+            if number is not None and any(fewest_steps(net, failed, *entry, goal) is not None for entry in entries):
+                found.add((*head, number))
+    return found
+
+
+def partitions(items):
+    """All ways to part items into classes."""
+    if not items:
+        yield []
+        return
+    for classes in partitions(items[1:]):
+        yield [[items[0]], *classes]
+        for place in range(len(classes)):
+            yield [*classes[:place], [items[0], *classes[place]], *classes[place + 1 :]]
+
+
+def sight(net, classes, road, label):
+    """[41]: what a label has on a road when the labels of all words are replaced by their classes."""
+    number = {one: place for place, members in enumerate(classes) for one in members}
+    groups = dict(net[2]).get((road, label))
+    if groups is None or groups == "home":
+        return groups
+    return [{(out, tuple(number[one] for one in word)) for out, word in group} for group in groups]
+
+
+def are_twins(net, classes):
+    """[41]: whether any two labels of a class are as twins have to be."""
+    for members in classes:
+        for one, other in itertools.combinations(members, 2):
+            for road in range(len(net[0])):
+                if sight(net, classes, road, one) != sight(net, classes, road, other):
+                    return False
+    return True
+
+
+def twins(net):
+    """[41]: the coarsest classes, which are coarser than all others."""
+    told = [classes for classes in partitions(list(net[1])) if are_twins(net, classes)]
+    fine = [{frozenset(members) for members in classes} for classes in told]
+    coarsest = min(fine, key=len)
+    for classes in fine:
+        assert all(any(members <= whole for whole in coarsest) for members in classes)
+    return coarsest
+
+
+def replaced(net, stack):
+    """[41]: the stack with each label replaced by the first one of its class."""
+    return tuple(
+        next(label for label in net[1] if label in members)
+        for one in stack for members in twins(net) if one in members
+    )

@@ -215,6 +215,17 @@ NO_GOALS = (
     ("house", 0, 0, 0), ("home", 0, (), ()), ("heads", (), (), ()), ("lost", 0, 0, 0),
     ("heads", ((0, Agreeing()),)), ("at", Breaking(), ()), ("at", 0, (Agreeing(),)), ("at", 0, Breaking()),
 )
+NO_HOUSES = (*WRONG, 8, 9, "0", "", (), (0,), (1,))
+NO_HEADS = (
+    *WRONG, (), (0,), 0, "", "a", "-", (0, "", ""), (4, ""), (-1, "a"), (True, "a"), (False, ""), ("0", "a"), [0, "a"],
+    (0, "c"), (0, "any"), (0, "all"), (0, "-"), (0, None), (0, 0), (0, ("a",)), (0, ()), (0, b"a"), (0, b""),
+    (0, Agreeing()), (Agreeing(), "a"), (0, Breaking()), ("a", 0), "0a", (10**999, ""),
+)
+NO_ENTRIES = (
+    *WRONG, (), ((0, ()),) * 7, [(0, ())], {(0, ())}, "", 0, ((0,),), ((0, (), ()),), ((4, ()),), ((True, ()),),
+    ((0, []),), ((0, "a"),), ((0, ("c",)),), ((0, ("all",) * 7),), ((0, None),), ((None, ()),), ([0, ()],), (0, ()),
+    ((0, Breaking()),), (Breaking(),), ((0, (Agreeing(),)),), (((0, ()),),), (0, ("a",)),
+)
 # One of each of the six kinds at the least, of NET.
 GOALS = (
     ("lost",), ("home",), ("home", 1), ("home", 2), ("home", 7), ("house", 0), ("house", 2), ("heads", ()),
@@ -267,6 +278,51 @@ def little_net(seed, most_word=3, chances=0.5):
             groups.append(tuple(dict.fromkeys(wanted)))
         rows.append((head, "home" if chance.random() < 0.1 else tuple(groups)))
     return (roads, labels, tuple(rows))
+
+
+def changed_net(seed, most_word=2):
+    """A pair of nets of which one or two rows differ, another one for each seed."""
+    chance = random.Random(seed)
+    net = little_net(seed, most_word, 0.3)
+    rows = dict(net[2])
+    for turn in range(chance.randint(1, 2)):
+        head = chance.choice(all_heads(net))
+        outs = [out for out, way in enumerate(net[0]) if way[0] == net[0][head[0]][1]]
+        if not outs or chance.random() < 0.2:
+            rows.pop(head, None)
+        else:
+            rows[head] = "home" if chance.random() < 0.2 else (((chance.choice(outs), some_word(chance, net[1], 2)),),)
+    return net, (net[0], net[1], tuple(sorted(rows.items())))
+
+
+def window_net(label):
+    """A net that keeps in mind which of the last eight labels were this one: its ninth road is home, without labels.
+
+    On the last road all labels are lost, and so is what is left on the first one.
+    """
+    rows = []
+    for road in range(9):
+        for top in ("a", "b", "c"):
+            behind = ((0, ()), (1, ())) if road == 0 and top == label else ((road + 1 if road else 0, ()),)
+            rows.append(((road, top), (behind,)))
+    rows.append(((8, ""), "home"))
+    return (((0, 0),) * 10, ("a", "b", "c"), tuple(sorted(rows)))
+
+
+def clock_net(more):
+    """A net in which, on the last road, b starts a clock of four hours and one of five; each a lets them go on.
+
+    Without labels they are home unless it is their last hour; b is lost, too. What is started besides is told.
+    """
+    rows = []
+    for first, hours in ((0, 4), (4, 5)):
+        for hour in range(hours):
+            rows.append(((first + hour, "a"), (((first + (hour + 1) % hours, ()),),)))
+            if hour < hours - 1:
+                rows.append(((first + hour, ""), "home"))
+    rows.append(((9, "b"), (((9, ("c",)), (9, ("d",)), *((road, ()) for road in more)),)))
+    rows.append(((9, "c"), (((0, ()), (4, ())),)))
+    return (((0, 0),) * 10, ("a", "b", "c", "d"), tuple(sorted(rows, key=lambda row: row[0])))
 
 
 def flat_net(seed):

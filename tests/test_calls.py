@@ -6,10 +6,10 @@ import itertools
 import random
 import unittest
 
-from labelroads.errors import BadFailed, BadGoal, BadNet, BadNumber, BadParcel, BadRoad, BadShape
+from labelroads.errors import BadEntries, BadFailed, BadGoal, BadNet, BadNumber, BadParcel, BadRoad, BadShape
 from tests.samples import (
-    GOALS, LABELS, NET, NO_FAILED, NO_GOALS, NO_NUMBERS, NO_PARCELS, NO_ROADS, NO_SHAPES, ROADS, ROWS, WRONG,
-    fault_place, nested, places, put_at, told_by,
+    GOALS, LABELS, NET, NO_ENTRIES, NO_FAILED, NO_GOALS, NO_HOUSES, NO_NUMBERS, NO_PARCELS, NO_ROADS, NO_SHAPES, ROADS,
+    ROWS, WRONG, fault_place, nested, places, put_at, told_by,
 )
 
 # Of each function that refuses arguments: its module and its parameters.
@@ -35,15 +35,29 @@ CALLS = (
     ("ever", "check_ever", "net failed parcel paper"),
     ("heights", "height", "net failed parcel"),
     ("outcomes", "outcomes", "net failed parcel"),
+    ("likeness", "alike", "one other most"),
+    ("likeness", "parted", "one other most"),
+    ("safety", "comes_home", "net most road shape house"),
+    ("safety", "unsafe", "net most road shape house"),
+    ("safety", "sturdy", "net road shape house"),
+    ("serving", "serving", "net most entries"),
+    ("serving", "pruned", "net most entries"),
+    ("twins", "twins", "net"),
+    ("twins", "merged", "net"),
+    ("twins", "merged_parcel", "net parcel"),
 )
 GOOD = {
     "net": NET,
+    "one": NET,
+    "other": (ROADS, LABELS, ROWS[1:]),
     "failed": (1, 3),
     "most": 1,
     "road": 0,
     "shape": ("a", "all"),
     "goal": ("house", 0),
     "parcel": (0, ("a", "b")),
+    "house": 2,
+    "entries": ((0, ("a",)), (3, ("all",))),
     "stack": ("a", "b"),
     "value": ("way", (), (), ()),
     "paper": ("ends", ((0, "a", 2), (1, "a", 1)), (((0, "a"), 1), ((2, ""), 0), ((2, "b"), 0))),
@@ -57,6 +71,8 @@ REFUSED = {
     "shape": (BadShape, NO_SHAPES),
     "goal": (BadGoal, NO_GOALS),
     "parcel": (BadParcel, NO_PARCELS),
+    "house": (BadNumber, NO_HOUSES),
+    "entries": (BadEntries, NO_ENTRIES),
 }
 
 
@@ -69,6 +85,9 @@ def functions():
         good = {**GOOD, **OTHERS.get(name, {})}
         found.append((call, names, [good[parameter] for parameter in names]))
     return found
+
+
+NETS = ("net", "one", "other")
 
 
 class Names(unittest.TestCase):
@@ -100,7 +119,12 @@ class Names(unittest.TestCase):
 class Refusals(unittest.TestCase):
     def refused(self, call, values, name, value):
         error, wrong = REFUSED[name]
-        self.assertIs(told_by(self, error, call, *values).value, value, (call, values))
+        told = told_by(self, error, call, *values)
+        if name == "entries":
+            # Which place this is, the tests of labelroads.serving look at.
+            self.assertIn(told.place, (None, 0, 1))
+        else:
+            self.assertIs(told.value, value, (call, values))
 
     def test_every_wrong_value_in_each_place(self):
         for call, names, good in functions():
@@ -124,7 +148,7 @@ class Refusals(unittest.TestCase):
             for place, name in enumerate(names):
                 for behind in WRONG:
                     values = [*good[:place], *[behind for name in names[place:]]]
-                    if name == "net":
+                    if name in NETS:
                         self.assertEqual(told_by(self, BadNet, call, *values).place, ())
                     elif name in REFUSED:
                         self.refused(call, values, name, behind)
@@ -148,8 +172,12 @@ class Refusals(unittest.TestCase):
             "shape": (("a",), ("any", "a")),
             "goal": (("at", 1, ()), ("at", 0, ("a",)), ("heads", ((0, "a"),)), ("heads", ((1, ""),))),
             "parcel": ((1, ()), (0, ("a",)), (0, ("b", "a"))),
+            "entries": (((1, ()),), ((0, ("a",)),), ((0, ("b",)), (0, ("all", "a")))),
         }
-        fine = {"net": one, "failed": (0,), "road": 0, "shape": ("b",), "goal": ("lost",), "parcel": (0, ("b",))}
+        fine = {
+            "net": one, "one": one, "other": one, "failed": (0,), "road": 0, "shape": ("b",), "goal": ("lost",),
+            "parcel": (0, ("b",)), "entries": ((0, ("b",)),),
+        }
         for call, names, good in functions():
             good = [fine.get(name, value) for name, value in zip(names, good)]
             for place, name in enumerate(names):
@@ -201,6 +229,8 @@ class Accepted(unittest.TestCase):
             "road": (0, 1, 2, 3),
             "failed": ((), (0,), (3,), (0, 1, 2, 3)),
             "parcel": ((0, ()), (3, ("a",) * 3000)),
+            "house": tuple(range(8)),
+            "entries": (((3, ()),), ((0, ("all",) * 6),) * 6),
         }
         for call, names, good in functions():
             for place, name in enumerate(names):

@@ -99,6 +99,12 @@ def accepts_some(net, road, shape, table):
     return lightest_stack(table, net[1], road, shape, end_state(net)) is not None
 
 
+def accepts(net, table, parcel):
+    """Whether the machine with this table accepts a parcel."""
+    road, stack = parcel
+    return end_state(net) in reached(table, road, (*stack, ""))
+
+
 def is_closed(net, failed, goal, value):
     """Whether any value is a closed machine of a goal."""
     need_net(net)
@@ -113,5 +119,4 @@ def can_come(net, failed, parcel, goal):
     need_failed(net, failed)
     need_parcel(net, parcel)
     need_goal(net, goal)
-    road, stack = parcel
-    return end_state(net) in reached(least_table(net, failed, goal), road, (*stack, ""))
+    return accepts(net, least_table(net, failed, goal), parcel)

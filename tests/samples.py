@@ -390,3 +390,30 @@ def winding_net(seed):
             wanted.append((chance.randrange(len(roads)), word))
         rows.append((head, "home" if chance.random() < 0.03 else (tuple(dict.fromkeys(wanted)),)))
     return (roads, labels, tuple(rows))
+
+
+def twin_net(seed):
+    """A net in which labels are made from fewer ones: many of them are twins. Another one for each seed."""
+    chance = random.Random(seed)
+    net = (little_net, flat_net, some_net)[seed % 3](seed)
+    labels = ("d", "c", "b", "a")[: chance.randint(2, 4)]
+    stands_for = {label: chance.choice(net[1]) for label in labels}
+    named = {label: [one for one in labels if stands_for[one] == label] for label in net[1]}
+    rows = {}
+    for road, top in all_heads((net[0], labels)):
+        groups = dict(net[2]).get((road, stands_for.get(top, "")))
+        if groups is not None:
+            rows[(road, top)] = groups if groups == "home" else renamed(chance, groups, named)
+    if rows and chance.random() < 0.3:
+        rows.pop(chance.choice(list(rows)))
+    return (net[0], labels, tuple(sorted(rows.items(), key=lambda row: row[0])))
+
+
+def renamed(chance, groups, named):
+    """The groups with other names of their labels, and their choices in another order."""
+    found = []
+    for group in groups:
+        wanted = [(out, tuple(chance.choice(named[one] or ["d"]) for one in word)) for out, word in group]
+        chance.shuffle(wanted)
+        found.append(tuple(dict.fromkeys(wanted)))
+    return tuple(found)

@@ -6,10 +6,12 @@ import itertools
 import random
 import unittest
 
-from labelroads.errors import BadEntries, BadFailed, BadGoal, BadNet, BadNumber, BadParcel, BadRoad, BadShape
+from labelroads.errors import (
+    BadEntries, BadFailed, BadGoal, BadHead, BadNet, BadNumber, BadParcel, BadRoad, BadShape,
+)
 from tests.samples import (
-    GOALS, LABELS, NET, NO_ENTRIES, NO_FAILED, NO_GOALS, NO_HOUSES, NO_NUMBERS, NO_PARCELS, NO_ROADS, NO_SHAPES, ROADS,
-    ROWS, WRONG, fault_place, nested, places, put_at, told_by,
+    GOALS, LABELS, NET, NO_ENTRIES, NO_FAILED, NO_GOALS, NO_HEADS, NO_HOUSES, NO_NUMBERS, NO_PARCELS, NO_ROADS,
+    NO_SHAPES, ROADS, ROWS, WRONG, fault_place, nested, places, put_at, told_by,
 )
 
 # Of each function that refuses arguments: its module and its parameters.
@@ -45,6 +47,11 @@ CALLS = (
     ("twins", "twins", "net"),
     ("twins", "merged", "net"),
     ("twins", "merged_parcel", "net parcel"),
+    ("texts", "net_text", "net"),
+    ("texts", "parcel_text", "net parcel"),
+    ("texts", "read_parcel", "net text"),
+    ("turning", "with_row", "net head groups"),
+    ("turning", "turned_parcel", "net head groups most"),
 )
 GOOD = {
     "net": NET,
@@ -56,6 +63,9 @@ GOOD = {
     "shape": ("a", "all"),
     "goal": ("house", 0),
     "parcel": (0, ("a", "b")),
+    "head": (0, "a"),
+    "groups": "home",
+    "text": "0 b",
     "house": 2,
     "entries": ((0, ("a",)), (3, ("all",))),
     "stack": ("a", "b"),
@@ -71,6 +81,7 @@ REFUSED = {
     "shape": (BadShape, NO_SHAPES),
     "goal": (BadGoal, NO_GOALS),
     "parcel": (BadParcel, NO_PARCELS),
+    "head": (BadHead, NO_HEADS),
     "house": (BadNumber, NO_HOUSES),
     "entries": (BadEntries, NO_ENTRIES),
 }
@@ -173,10 +184,11 @@ class Refusals(unittest.TestCase):
             "goal": (("at", 1, ()), ("at", 0, ("a",)), ("heads", ((0, "a"),)), ("heads", ((1, ""),))),
             "parcel": ((1, ()), (0, ("a",)), (0, ("b", "a"))),
             "entries": (((1, ()),), ((0, ("a",)),), ((0, ("b",)), (0, ("all", "a")))),
+            "head": ((1, ""), (1, "b"), (0, "a")),
         }
         fine = {
             "net": one, "one": one, "other": one, "failed": (0,), "road": 0, "shape": ("b",), "goal": ("lost",),
-            "parcel": (0, ("b",)), "entries": ((0, ("b",)),),
+            "parcel": (0, ("b",)), "entries": ((0, ("b",)),), "head": (0, "b"),
         }
         for call, names, good in functions():
             good = [fine.get(name, value) for name, value in zip(names, good)]
@@ -231,6 +243,7 @@ class Accepted(unittest.TestCase):
             "parcel": ((0, ()), (3, ("a",) * 3000)),
             "house": tuple(range(8)),
             "entries": (((3, ()),), ((0, ("all",) * 6),) * 6),
+            "head": tuple((road, top) for road in range(4) for top in ("", "a", "b")),
         }
         for call, names, good in functions():
             for place, name in enumerate(names):

@@ -8,6 +8,12 @@ from tools.rules import faults, package_texts
 ROOT = Path(__file__).resolve().parent.parent
 LONG = "def told(xs):\n" + "    xs.append(0)\n" * 39
 
+# Methods that end a class: one that changes its object, one that makes it, and one that lets it not be iterated over.
+TOLD = "    def told(self, at):\n        self.at = at\n        return at\n"
+MADE = "    def __init__(self):\n        self.at = []\n"
+ITERATED = "class Box:\n    def __iter__(self):\n        raise TypeError('a')\n\n"
+HELD = "class Held:\n    def __init__(self, at):\n        self.at = at\n\n    def __enter__(self):\n        return self.at\n\n"
+
 # Rules, and files that break just them.
 BROKEN = (
     ("L2", "A = 0\nfrom labelroads.other import one\n"),
@@ -76,6 +82,35 @@ BROKEN = (
     ("L25", "def told(a):\n    return a.split\n"),
     ("L25", "def told(a):\n    return a.split(sep=a)\n"),
     ("L26", "class Box:\n    def __init__(self):\n        self.items = 0\n"),
+    ("L4", "def told(a=[]):\n    return a\n"),
+    ("L5", "class Box:\n    def __getitem__(self, at):\n        return at\n"),
+    ("L5", ITERATED + "    def __getitem__(self, at, by):\n        return at\n"),
+    ("L5", ITERATED + "    def __getitem__(self, at=0):\n        return at\n"),
+    ("L5", "class Box:\n    def __iter__(self):\n        return self\n"),
+    ("L5", ITERATED + "    def __getitem__(self, at):\n        self.at = at\n        return at\n"),
+    ("L5", ITERATED + "    def __getitem__(self, at):\n        return self.told(at)\n\n" + TOLD),
+    ("L5", "class Box:\n    @property\n    def many(self):\n        return self.told([])\n\n" + TOLD),
+    ("L5", "class Box:\n    @property\n    def many(self):\n        self.at[0] = 1\n        return self.at\n\n" + MADE),
+    ("L5", "class Box:\n    @property\n    def many(self):\n        self.at.append(1)\n        return self.at\n\n" + MADE),
+    ("L5", "class Box:\n    @property\n    def many(self):\n        return 0\n\n\ndef told(box):\n    box.many = 1\n"),
+    ("L5", "class Box:\n    @property\n    def many(self):\n        return 0\n\n\ndef told(box):\n    box.many()\n"),
+    ("L5", "class Box:\n    @property\n    def many(self, by):\n        return by\n"),
+    ("L5", "class Box:\n    def __eq__(self, other):\n        other.at = self\n        return True\n\n" + MADE),
+    ("L6", "def told(a):\n    with a or told:\n        return a\n"),
+    ("L6", "def told(a):\n    with a as (b, c):\n        return b\n"),
+    ("L6", "class Box:\n    def __exit__(self, kind, value):\n        pass\n"),
+    ("L6", "class Box:\n    def __exit__(self, kind, value, trace):\n        len(kind)\n"),
+    ("L6", "class Box:\n    def __exit__(self, *told):\n        self.at = len(told)\n"),
+    ("L6", "class Box:\n    def __exit__(self, *told):\n        return True\n"),
+    ("L15", "A = {'a': [1]}\n"),
+    ("L15", "A = [1]\n\n\ndef told():\n    A.append(2)\n"),
+    ("L15", "A = [1]\n\n\ndef told():\n    A[0] = 2\n"),
+    ("L15", "A = {'a': 1}\n\n\ndef told():\n    return A\n"),
+    ("L15", "A = {'a': 1}\n\n\ndef told(a):\n    return a(A)\n"),
+    ("L18", "class Box:\n    def told(self):\n        return 0\n\n    def told(self):\n        return 1\n"),
+    ("L28", "class Box:\n    def __init__(self):\n        return None\n"),
+    ("L28", "class Box:\n    def __len__(self):\n        return self.at\n\n" + MADE),
+    ("L28", "class Box:\n    def __len__(self):\n        if self:\n            return 0\n"),
     ("L27", "A = 'a%b'\n"),
     ("L27", "def told(n):\n    return 2 ** n\n"),
     ("L27", "A = 'a\\t\\x00'\n"),
@@ -94,6 +129,13 @@ GOOD = (
     "def told(a):\n    seen = set()\n    seen.add(a)\n    return a in seen and len(seen) > 1 and sorted(seen)\n",
     "def told(a):\n    for b, c in zip(list(a), a[1:]):\n        d = list(range(b))\n        d.append(c)\n    return a\n",
     "def told(a):\n    for b in list(a):\n        a.append(b)\n    return max(a.values(), default=0)\n",
+    "A = {'a': (1, 2), 'b': ()}\n\n\ndef told(a):\n    return a in A and len(A) and A[a] == A.get(a)\n",
+    "def told(a, b=0, c=(1, 'a'), d=None):\n    return a\n",
+    ITERATED + "    def __getitem__(self, at):\n        rows = [at]\n        rows.append(at)\n        return rows\n",
+    ITERATED + "    def __len__(self):\n        return len(self.at)\n\n" + TOLD + "\n" + MADE,
+    "class Box:\n    @property\n    def many(self):\n        return self.at\n\n" + MADE,
+    HELD + "    def __exit__(self, kind, value, trace):\n        self.at = kind\n\n\n"
+    "def told(a):\n    with Held(a) as b:\n        return b\n",
     "def told(a):\n    return min([b for b, c in a.items()], key=lambda b: -b) + sum(list(a.keys()), start=1)\n",
 )
 

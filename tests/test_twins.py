@@ -10,8 +10,7 @@ from labelroads.outcomes import outcomes
 from labelroads.twins import merged, merged_parcel, twins
 from tests import plain
 from tests.samples import (
-    NET, NO_PARCELS, SMALL, WRONG, all_heads, fault_place, flat_net, little_net, places, put_at, some_failed, some_net,
-    some_word, told_by,
+    NET, NO_PARCELS, SMALL, WRONG, fault_place, places, put_at, some_failed, some_word, told_by, twin_net,
 )
 
 ROADS = ((0, 0), (0, 1))
@@ -19,33 +18,6 @@ ROADS = ((0, 0), (0, 1))
 
 def net_of(labels, rows):
     return (ROADS, labels, tuple(sorted(rows.items(), key=lambda row: row[0])))
-
-
-def twin_net(seed):
-    """A net in which labels are made from fewer ones: many of them are twins. Another one for each seed."""
-    chance = random.Random(seed)
-    net = (little_net, flat_net, some_net)[seed % 3](seed)
-    labels = ("d", "c", "b", "a")[: chance.randint(2, 4)]
-    stands_for = {label: chance.choice(net[1]) for label in labels}
-    named = {label: [one for one in labels if stands_for[one] == label] for label in net[1]}
-    rows = {}
-    for road, top in all_heads((net[0], labels)):
-        groups = dict(net[2]).get((road, stands_for.get(top, "")))
-        if groups is not None:
-            rows[(road, top)] = groups if groups == "home" else renamed(chance, groups, named)
-    if rows and chance.random() < 0.3:
-        rows.pop(chance.choice(list(rows)))
-    return (net[0], labels, tuple(sorted(rows.items(), key=lambda row: row[0])))
-
-
-def renamed(chance, groups, named):
-    """The groups with other names of their labels, and their choices in another order."""
-    found = []
-    for group in groups:
-        wanted = [(out, tuple(chance.choice(named[one] or ["d"]) for one in word)) for out, word in group]
-        chance.shuffle(wanted)
-        found.append(tuple(dict.fromkeys(wanted)))
-    return tuple(found)
 
 
 class Twins(unittest.TestCase):

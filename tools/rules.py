@@ -9,6 +9,9 @@ import re
 import sys
 from pathlib import Path
 
+from tools.classes import (
+    default_faults, method_form_faults, property_faults, reading_faults, table_faults, with_faults,
+)
 from tools.places import (
     builtin_faults, changed_loop_faults, iterable_faults, method_faults, set_faults, stored_set_faults,
 )
@@ -317,9 +320,13 @@ def file_faults(names):
 
 ALONE = (
     text_faults, top_faults, function_faults, name_faults, statement_faults, string_faults, builtin_faults,
-    iterable_faults, changed_loop_faults, set_faults, stored_set_faults,
+    iterable_faults, changed_loop_faults, set_faults, stored_set_faults, method_form_faults, default_faults,
+    with_faults,
 )
-TOGETHER = (import_faults, attribute_faults, error_faults, eater_faults, method_faults)
+TOGETHER = (
+    import_faults, attribute_faults, error_faults, eater_faults, method_faults, reading_faults, property_faults,
+    table_faults,
+)
 
 
 def faults(texts):

@@ -28,14 +28,14 @@ def serving(net, most, entries):
 
 def known_serving(net, most, entries):
     """As serving, of arguments that are known to be valid."""
-    found = {}
+    found = []
     for failed in failed_sets(net, most):
         coming = coming_heads_of(net, failed, entries)
         for head, groups in net[2]:
             number = used_group(groups, failed)
             if head in coming and number is not None:
-                found[(*head, number)] = True
-    return tuple(sorted(list(found)))
+                found.append((*head, number))
+    return tuple(sorted(set(found)))
 
 
 def used_group(groups, failed):

@@ -380,6 +380,20 @@ class Equality(Case):
         self.assertEqual((one[0], one.net, one.failed), (other[0], other.net, other.failed))
         self.assertIs(one == other, False)
 
+    def test_a_step_that_leads_nowhere_else(self):
+        """Only the way tells of it."""
+        net = (((0, 0),), ("a",), (((0, ""), (((0, ()),),)),))
+        one, other = Live(net), Live(net)
+        one.send((0, ()))
+        other.send((0, ()))
+        one.step(0)
+        self.assertIs(one == other, False)
+        other.fail(0)
+        other.mend(0)
+        self.assertIs(one == other, False)
+        other.step(0)
+        self.assertIs(one == other, True)
+
     def test_other_numbers(self):
         one, other = Live(EXAMPLE), Live(EXAMPLE)
         for parcel in ((0, ()), (1, ())):
